@@ -331,7 +331,7 @@ func TestLeafIsNoNode(t *testing.T) {
 	}
 }
 
-// logged are the digests of eight leaves that programs for such lists are often tried with.
+// logged are the digests of eight leaves of unlike lengths.
 func logged(t *testing.T) []api.Digest {
 	t.Helper()
 	var l []api.Digest
@@ -345,7 +345,7 @@ func logged(t *testing.T) []api.Digest {
 	return l
 }
 
-// P8.1: the roots of these leaves, as they are known of RFC 6962.
+// P8.1: the roots of these leaves, as another program worked them out.
 func TestLoggedRoots(t *testing.T) {
 	l := logged(t)
 	for n, want := range []string{
@@ -365,7 +365,7 @@ func TestLoggedRoots(t *testing.T) {
 	}
 }
 
-// P8.1: proofs of these leaves, as they are known of RFC 6962.
+// P8.1: proofs of these leaves, digest by digest, as another program worked them out.
 func TestLoggedProofs(t *testing.T) {
 	l := logged(t)
 	const (
